@@ -1,0 +1,1 @@
+"""Iceopened: ships led through channels that freeze again."""
