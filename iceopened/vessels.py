@@ -1,7 +1,8 @@
 """Channels, and vessels, breakers, ships and trains: points 14, 15 and 16."""
 
-from iceopened.errors import Doubled, NoKind, NoName, NoNumber, NoPort
-from iceopened.words import is_name, is_within
+from iceopened.checks import check_number
+from iceopened.errors import Doubled, NoKind, NoName, NoPort
+from iceopened.words import is_name
 
 # The bounds of point 6.
 HOURS_MOST = 1000
@@ -21,11 +22,11 @@ class Channel:
         _check_names([name, one, other])
         if one == other:
             raise Doubled(one)
-        _check_number(hours, 1, HOURS_MOST)
-        _check_number(depth, 0, DEPTH_MOST)
-        _check_number(first, 0, THICK_MOST)
-        _check_number(growth, 0, GROWTH_MOST)
-        _check_number(most, first, THICK_MOST)
+        check_number(hours, 1, HOURS_MOST)
+        check_number(depth, 0, DEPTH_MOST)
+        check_number(first, 0, THICK_MOST)
+        check_number(growth, 0, GROWTH_MOST)
+        check_number(most, first, THICK_MOST)
         self.name = name
         self.one = one
         self.other = other
@@ -57,9 +58,9 @@ class Vessel:
 
     def __init__(self, name, port, hour, strength, draught):
         _check_names([name, port])
-        _check_number(hour, 0, HOUR_MOST)
-        _check_number(strength, 0, STRENGTH_MOST)
-        _check_number(draught, 0, DEPTH_MOST)
+        check_number(hour, 0, HOUR_MOST)
+        check_number(strength, 0, STRENGTH_MOST)
+        check_number(draught, 0, DEPTH_MOST)
         self.name = name
         self.port = port
         self.hour = hour
@@ -88,7 +89,7 @@ class Breaker(Vessel):
 
     def __init__(self, name, port, hour, strength, draught, cut):
         Vessel.__init__(self, name, port, hour, strength, draught)
-        _check_number(cut, 1, CUT_MOST)
+        check_number(cut, 1, CUT_MOST)
         self.cut = cut
 
     def kind(self):
@@ -155,11 +156,6 @@ def _check_names(things):
     for thing in things:
         if not is_name(thing):
             raise NoName(thing)
-
-
-def _check_number(thing, low, high):
-    if not is_within(thing, low, high):
-        raise NoNumber(thing)
 
 
 def _can_be_train(thing):

@@ -2,7 +2,10 @@
 
 import unittest
 
+from iceopened.errors import IceError
+from iceopened.ice import Ice, Waters
 from iceopened.vessels import Breaker, Channel, Ship, Train, Vessel
+from iceopened.world import World
 
 
 def channel(**other):
@@ -29,12 +32,38 @@ def ship(**other):
     return Ship(*things.values())
 
 
+def parts():
+    """What a world is made of, by the names of these parts; new lists each time."""
+    return dict(
+        begin=2,
+        ports=["aa", "b", "d"],
+        channels=[
+            channel(), channel(name="e", one="d", other="b", hours=2, depth=9, first=8, growth=3, most=20),
+            channel(name="f", one="aa", other="d", hours=9, depth=5, first=1, growth=0, most=1),
+        ],
+        breakers=[breaker(), breaker(name="l", port="b", hour=0, strength=40, cut=5)],
+        ships=[ship(), ship(name="t", port="d", goal="aa", hour=1, draught=9), ship(name="u", port="b", hour=9)],
+    )
+
+
+def world(**other):
+    return World(*dict(parts(), **other).values())
+
+
 def odd_things():
     """Things that are neither names nor whole numbers, new ones each time."""
     return [
         None, True, False, [], (), {}, [1], ["a"], (1,), ("a",), {"a": 1}, {1: "a"}, [[[[[[[]]]]]]],
-        channel(), vessel(), breaker(), ship(), Train([vessel()]),
+        channel(), vessel(), breaker(), ship(), Train([vessel()]), world(), Ice(channel(), 0), Waters(world()),
     ]
+
+
+def outcome(made, *things):
+    """What comes of it: the answer, or the refusal as its class and values."""
+    try:
+        return ("told", made(*things))
+    except IceError as error:
+        return ("refused", type(error), vars(error))
 
 
 class Case(unittest.TestCase):

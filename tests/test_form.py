@@ -1,7 +1,10 @@
 """The interface as it is written, and what can be seen at once of the form of the package's files."""
 
 import ast
+import builtins
 import pathlib
+import re
+import tokenize
 import unittest
 
 PACKAGE = pathlib.Path(__file__).resolve().parent.parent / "iceopened"
@@ -13,6 +16,8 @@ FUNCTIONS = {
         "is_name": ["thing"],
         "number_of": ["word"],
     },
+    "worldtext": {"show_world": ["world"], "read_world": ["text"]},
+    "tables": {"is_table": ["world", "thing"], "table_told": ["world", "table"]},
 }
 
 # Of each class its base classes, and of its methods the arguments behind self.
@@ -50,7 +55,39 @@ CLASSES = {
         "Ship": (["Vessel"], {"__init__": ["name", "port", "goal", "hour", "strength", "draught"]}),
         "Train": (["Vessel"], {"__init__": ["vessels"], "names": []}),
     },
+    "world": {
+        "World": ([], {
+            "__init__": ["begin", "ports", "channels", "breakers", "ships"],
+            "begin_hour": [], "ports": [], "channels": [], "breakers": [], "ships": [], "vessels": [],
+            "channel": ["name"], "vessel": ["name"], "is_port": ["thing"], "channels_at": ["port"],
+            "from_hour": ["vessel"], "told": [],
+        }),
+    },
+    "ice": {
+        "Ice": ([], {
+            "__init__": ["channel", "begin"], "break_at": ["hour", "cut"], "mend_at": ["hour", "cut"],
+            "thick": ["hour"], "ahead": ["hour"], "breakings": [], "rows": [],
+            "next_hour": ["hour", "strength"], "last_hour": ["hour", "strength"], "stretches": ["strength"],
+            "copied": [],
+        }),
+        "Waters": ([], {"__init__": ["world"], "ice": ["name"], "thick": ["name", "hour"], "copied": []}),
+    },
 }
+
+BUILTINS = """
+    len range enumerate zip min max sum abs sorted reversed int str bool bytes list tuple dict set isinstance ord repr
+    any all divmod ValueError
+""".split()
+METHODS = """
+    append clear copy count endswith extend find get index insert isalnum isalpha isdigit islower isspace isupper items
+    join keys ljust lower lstrip partition pop remove replace reverse rfind rjust rpartition rsplit rstrip setdefault
+    split splitlines startswith strip update upper values zfill bit_length
+""".split()
+BARRED = """
+    type typing typing_extensions enum Enum IntEnum StrEnum Flag IntFlag Generic Protocol ABC ABCMeta namedtuple
+    NamedTuple TypedDict TYPE_CHECKING abstractmethod register mro elements open input law version_info with_traceback
+    add_note _wall _WallAttr dataclass overload contextmanager
+""".split()
 
 
 def parsed(path):
@@ -110,6 +147,51 @@ class Form(unittest.TestCase):
                 if isinstance(part, ast.ImportFrom):
                     self.assertEqual(part.level, 0, path.name)
                     self.assertTrue(part.module.startswith("iceopened."), (path.name, part.module))
+
+    def test_builtins_are_those_of_the_subset(self):
+        for path in self.files():
+            used = {part.id for part in ast.walk(parsed(path)) if isinstance(part, ast.Name)}
+            self.assertEqual(sorted(name for name in used if hasattr(builtins, name) and name not in BUILTINS), [])
+
+    def test_no_name_means_two_things(self):
+        for path in self.files():
+            tree = parsed(path)
+            taken = set(dir(builtins))
+            for part in tree.body:
+                if isinstance(part, ast.ImportFrom):
+                    taken.update(alias.name for alias in part.names)
+                if isinstance(part, ast.ClassDef):
+                    taken.add(part.name)
+            names = [part for part in ast.walk(tree) if isinstance(part, ast.Name)]
+            bound = {part.id for part in names if isinstance(part.ctx, ast.Store)}
+            bound.update(part.arg for part in ast.walk(tree) if isinstance(part, ast.arg))
+            bound.update(part.name for part in tree.body if isinstance(part, ast.FunctionDef))
+            self.assertEqual(sorted(bound & taken), [], path.name)
+
+    def test_methods_are_no_attributes(self):
+        methods, attributes, called = set(), set(), set()
+        for path in self.files():
+            for part in ast.walk(parsed(path)):
+                if isinstance(part, ast.ClassDef):
+                    methods.update(each.name for each in part.body if isinstance(each, ast.FunctionDef))
+                if isinstance(part, ast.Attribute) and isinstance(part.ctx, ast.Store):
+                    attributes.add(part.attr)
+                if isinstance(part, ast.Call) and isinstance(part.func, ast.Attribute):
+                    called.add(part.func.attr)
+        self.assertEqual(sorted(methods & attributes), [])
+        self.assertEqual(sorted(called - methods - set(METHODS)), [])
+
+    def test_no_statement_or_word_that_is_barred(self):
+        barred = (ast.AsyncFunctionDef, ast.AsyncFor, ast.AsyncWith, ast.Await, ast.Div)
+        for path in self.files():
+            for part in ast.walk(parsed(path)):
+                self.assertNotIsInstance(part, barred, path.name)
+            with tokenize.open(path) as file:
+                words = [token.string for token in tokenize.generate_tokens(file.readline)
+                         if token.type in (tokenize.NAME, tokenize.STRING) and not token.string.startswith('"""')]
+            found = re.findall("[A-Za-z_]+", " ".join(words))
+            self.assertEqual(sorted(set(found) & set(BARRED)), [], path.name)
+            self.assertNotIn("%", "".join(word for word in words if word.startswith('"')), path.name)
 
 
 if __name__ == "__main__":
