@@ -50,6 +50,41 @@ def world(**other):
     return World(*dict(parts(), **other).values())
 
 
+def some_worlds(many, chance):
+    """Small worlds with much that is alike, so that vessels meet."""
+    for _ in range(many):
+        ports = ["p", "q", "r"][:chance.choice([2, 3, 3])]
+        channels = []
+        for name in "abcd"[:chance.choice([1, 2, 3, 4])]:
+            one, other = chance.sample(ports, 2)
+            first = chance.randrange(9)
+            channels.append(Channel(name, one, other, chance.choice([1, 1, 2, 4]), chance.choice([1, 5, 5, 5]), first,
+                                    chance.choice([0, 1, 1, 3]), first + chance.randrange(12)))
+        breakers = [
+            Breaker("k" + name, chance.choice(ports), chance.randrange(6), chance.choice([5, 9, 9, 12]),
+                    chance.choice([0, 1, 3]), chance.choice([1, 3, 6]))
+            for name in "abcd"[:chance.randrange(5)]
+        ]
+        ships = [
+            Ship("s" + name, chance.choice(ports), chance.choice(ports), chance.randrange(6),
+                 chance.choice([3, 5, 9]), chance.choice([0, 1, 3]))
+            for name in "abcd"[:chance.randrange(5)]
+        ]
+        yield World(chance.choice([0, 3]), ports, channels, breakers, ships)
+
+
+def some_table(made, chance):
+    """A table of the world, many of whose entries may be done."""
+    table = {}
+    for each in made.vessels():
+        hour = made.begin_hour() + chance.randrange(5)
+        table[each.name] = []
+        for _ in range(chance.choice([0, 1, 2, 4, 6])):
+            table[each.name].append((hour, chance.choice(made.channels()).name))
+            hour += chance.choice([1, 1, 2, 4, 5])
+    return {name: table[name] for name in chance.sample(list(table), len(table))}
+
+
 def odd_things():
     """Things that are neither names nor whole numbers, new ones each time."""
     return [

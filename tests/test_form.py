@@ -18,6 +18,14 @@ FUNCTIONS = {
     },
     "worldtext": {"show_world": ["world"], "read_world": ["text"]},
     "tables": {"is_table": ["world", "thing"], "table_told": ["world", "table"]},
+    "walking": {"good_walk": ["world", "table"]},
+    "tabletext": {"show_table": ["world", "table"], "read_table": ["world", "text"]},
+    "soonest": {
+        "hours_from": ["world", "waters", "vessel", "port", "hour"],
+        "legs_from": ["world", "waters", "vessel", "port", "hour"],
+        "way_to": ["world", "waters", "vessel", "port", "hour", "goal"],
+        "shows_hours": ["world", "waters", "vessel", "port", "hour", "thing"],
+    },
 }
 
 # Of each class its base classes, and of its methods the arguments behind self.
@@ -71,6 +79,12 @@ CLASSES = {
             "copied": [],
         }),
         "Waters": ([], {"__init__": ["world"], "ice": ["name"], "thick": ["name", "hour"], "copied": []}),
+    },
+    "walking": {
+        "Walk": ([], {
+            "__init__": ["world", "table"], "faults": [], "done": [], "table": [], "waters": [],
+            "where": ["name", "hour"], "at_end": ["name"], "comes": ["name"],
+        }),
     },
 }
 
