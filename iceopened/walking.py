@@ -1,7 +1,7 @@
 """Tables walked hour by hour: points 51 to 56."""
 
-from iceopened.checks import check_hour
-from iceopened.errors import Faulty, NoVessel
+from iceopened.checks import check_hour, ship_of
+from iceopened.errors import Faulty
 from iceopened.ice import Waters
 from iceopened.tables import TABLE_HOUR_MOST, table_told
 
@@ -55,9 +55,7 @@ class Walk:
 
     def comes(self, name):
         """The first hour at which the ship is in its goal, None where it never is."""
-        if name not in [ship.name for ship in self._world.ships()]:
-            raise NoVessel(name)
-        ship = self._world.vessel(name)
+        ship = ship_of(self._world, name)
         if ship.port == ship.goal:
             return self._world.from_hour(ship)
         for leg in self._legs[name]:

@@ -1,11 +1,16 @@
 """What the tests of several files share."""
 
+import random
 import unittest
 
 from iceopened.errors import IceError
 from iceopened.ice import Ice, Waters
 from iceopened.vessels import Breaker, Channel, Ship, Train, Vessel
+from iceopened.walking import Walk
 from iceopened.world import World
+
+# Of the world below.
+NO_PORTS = ["", "x", "c", "k", "AA", "aa ", 0, 5, 10 ** 39, ["aa"], ("aa",), {"aa": "b"}, "x" * 2000]
 
 
 def channel(**other):
@@ -83,6 +88,52 @@ def some_table(made, chance):
             table[each.name].append((hour, chance.choice(made.channels()).name))
             hour += chance.choice([1, 1, 2, 4, 5])
     return {name: table[name] for name in chance.sample(list(table), len(table))}
+
+
+def open_world(*channels):
+    """A world of five ports in which nothing hinders but what these channels tell."""
+    return World(0, ["a", "b", "d", "e", "f"], channels, [], [])
+
+
+def soonest_by_hours(made, waters, each, port, hour, end):
+    """From each port the least hour at which the vessel can be there, told by trying every hour as far as the end."""
+    there = {port: hour}
+    for now in range(hour, end + 1):
+        for channel in made.channels():
+            for one, other in (channel.ends(), channel.ends()[::-1]):
+                if there.get(one, end + 1) > now or channel.depth < each.draught:
+                    continue
+                if waters.thick(channel.name, now) <= each.strength:
+                    there[other] = min(there.get(other, now + channel.hours), now + channel.hours)
+    return there
+
+
+def some_goings(many):
+    """Worlds, waters on which breakers went, vessels of the world and of none, ports and hours."""
+    chance = random.Random(60)
+    for made in some_worlds(many, chance):
+        waters = Walk(made, some_table(made, chance)).waters()
+        vessels = made.vessels() + [Vessel("v", "z", 9, chance.randrange(12), chance.randrange(5))]
+        vessels.append(Train([breaker(strength=9, draught=0, cut=3), chance.choice(vessels)]))
+        for each in chance.sample(vessels, 2):
+            yield made, waters, each, chance.choice(made.ports()), made.begin_hour() + chance.choice([0, 1, 4, 9])
+
+
+def some_leads(many):
+    """Worlds, and good tables of breakers of each: one without entries and one with some."""
+    chance = random.Random(80)
+    for made in some_worlds(many, chance):
+        table = {}
+        for _ in range(8 if made.breakers() else 0):
+            each = chance.choice(made.breakers())
+            port, since = Walk(made, table).at_end(each.name)
+            for channel in made.channels_at(port):
+                entry = (since + chance.choice([0, 0, 1, 3]), channel.name)
+                longer = {**table, each.name: table.get(each.name, []) + [entry]}
+                if chance.randrange(2) and not Walk(made, longer).faults():
+                    table = longer
+                    break
+        yield made, {}, Walk(made, table).table()
 
 
 def odd_things():

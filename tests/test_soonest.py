@@ -2,50 +2,19 @@
 
 import copy
 import itertools
-import random
 import unittest
 
-from helping import Case, breaker, odd_things, outcome, ship, some_table, some_worlds, vessel, world
+from helping import (
+    NO_PORTS, Case, breaker, odd_things, open_world, outcome, ship, some_goings, soonest_by_hours, vessel, world,
+)
 from iceopened.errors import NoHour, NoPort
 from iceopened.ice import Waters
 from iceopened.soonest import hours_from, legs_from, shows_hours, way_to
-from iceopened.vessels import Channel, Train, Vessel
-from iceopened.walking import Walk
-from iceopened.world import World
+from iceopened.vessels import Channel, Train
 
-NO_PORTS = ["", "x", "c", "k", "AA", "aa ", 0, 5, 10 ** 39, ["aa"], ("aa",), {"aa": "b"}, "x" * 2000]
 NO_HOURS = ["5", "", 1, 0, -1, 10 ** 8 + 1, 10 ** 39, -(10 ** 39), [5], (5,)]
 # The arguments behind the hour that are wanted by some of the four.
 ASKED = {hours_from: (), legs_from: (), way_to: ("b",), shows_hours: ({},)}
-
-
-def open_world(*channels):
-    """A world of five ports in which nothing hinders but what these channels tell."""
-    return World(0, ["a", "b", "d", "e", "f"], channels, [], [])
-
-
-def hour_by_hour(made, waters, each, port, hour, end):
-    """From each port the least hour at which the vessel can be there, told by trying every hour as far as the end."""
-    there = {port: hour}
-    for now in range(hour, end + 1):
-        for channel in made.channels():
-            for one, other in (channel.ends(), channel.ends()[::-1]):
-                if there.get(one, end + 1) > now or channel.depth < each.draught:
-                    continue
-                if waters.thick(channel.name, now) <= each.strength:
-                    there[other] = min(there.get(other, now + channel.hours), now + channel.hours)
-    return there
-
-
-def all_cases(many):
-    """Worlds, waters on which breakers went, vessels of the world and of none, ports and hours."""
-    chance = random.Random(60)
-    for made in some_worlds(many, chance):
-        waters = Walk(made, some_table(made, chance)).waters()
-        vessels = made.vessels() + [Vessel("v", "z", 9, chance.randrange(12), chance.randrange(5))]
-        vessels.append(Train([breaker(strength=9, draught=0, cut=3), chance.choice(vessels)]))
-        for each in chance.sample(vessels, 2):
-            yield made, waters, each, chance.choice(made.ports()), made.begin_hour() + chance.choice([0, 1, 4, 9])
 
 
 class Refused(Case):
@@ -183,15 +152,15 @@ class Hours(Case):
 
     def test_against_trying_every_hour(self):
         many = 0
-        for made, waters, each, port, hour in all_cases(250):
+        for made, waters, each, port, hour in some_goings(250):
             told = hours_from(made, waters, each, port, hour)
-            self.assertEqual(told, hour_by_hour(made, waters, each, port, hour, hour + 60))
+            self.assertEqual(told, soonest_by_hours(made, waters, each, port, hour, hour + 60))
             self.assertEqual(list(told), [other for other in made.ports() if other in told])
             many += len(told) > 1
         self.assertGreater(many, 150)
 
     def test_what_is_handed_in_stays(self):
-        for made, waters, each, port, hour in all_cases(10):
+        for made, waters, each, port, hour in some_goings(10):
             before = (made.told(), {one.name: waters.ice(one.name).breakings() for one in made.channels()}, each.row())
             told = hours_from(made, waters, each, port, hour)
             told.clear()
@@ -228,7 +197,7 @@ class Legs(Case):
         self.assertEqual(legs_from(made, waters, vessel(), "b", 9), {"a": (9, "p", "b")})
 
     def test_against_the_words_of_the_point(self):
-        for made, waters, each, port, hour in all_cases(150):
+        for made, waters, each, port, hour in some_goings(150):
             hours = hours_from(made, waters, each, port, hour)
             wanted = {}
             for other in [other for other in made.ports() if other in hours and other != port]:
@@ -261,7 +230,7 @@ class Ways(Case):
                          [(1, "xe"), (4, "xd"), (7, "xb"), (10, "xa")])
 
     def test_walked_it_comes_at_the_soonest_hour(self):
-        for made, waters, each, port, hour in all_cases(200):
+        for made, waters, each, port, hour in some_goings(200):
             hours = hours_from(made, waters, each, port, hour)
             for goal in made.ports():
                 way = way_to(made, waters, each, port, hour, goal)
@@ -278,7 +247,7 @@ class Ways(Case):
                 self.assertEqual({type(entry) for entry in way}, {tuple} if way else set())
 
     def test_ways_go_by_the_legs(self):
-        for made, waters, each, port, hour in all_cases(80):
+        for made, waters, each, port, hour in some_goings(80):
             legs = legs_from(made, waters, each, port, hour)
             for goal, leg in legs.items():
                 ahead = way_to(made, waters, each, port, hour, leg[2])
@@ -323,7 +292,7 @@ class Shows(Case):
             self.assertIs(self.shows(thing), False)
 
     def test_of_told_ones(self):
-        for made, waters, each, port, hour in all_cases(60):
+        for made, waters, each, port, hour in some_goings(60):
             told = hours_from(made, waters, each, port, hour)
             handed = copy.deepcopy(told)
             self.assertIs(shows_hours(made, waters, each, port, hour, handed), True)
