@@ -7,8 +7,13 @@ from iceopened.words import is_name, number_of
 
 def show_table(world, table):
     """The text of the table."""
-    rows = [name + " " + _shown(entries) for name, entries in table_told(world, table).items()]
+    rows = [name + " " + show_entries(entries) for name, entries in table_told(world, table).items()]
     return "\n".join(rows)
+
+
+def show_entries(entries):
+    """The entries as they stand in a row."""
+    return ", ".join([str(hour) + " " + channel for hour, channel in entries])
 
 
 def read_table(world, text):
@@ -26,10 +31,6 @@ def read_table(world, text):
             raise NoText(at)
         table[name] = entries
     return table_told(world, table)
-
-
-def _shown(entries):
-    return ", ".join([str(hour) + " " + channel for hour, channel in entries])
 
 
 def _entries_of(text):

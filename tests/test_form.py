@@ -48,6 +48,16 @@ FUNCTIONS = {
         "stuck": ["world", "table"], "freed": ["world", "table", "name"], "led_out": ["world", "table", "name"],
     },
     "best": {"least_table": ["world", "last"], "shows_least": ["world", "last", "thing"]},
+    "otherwise": {
+        "renamed": ["world", "ports", "channels", "vessels"],
+        "renamed_table": ["world", "table", "channels", "vessels"],
+        "later_world": ["world", "many"],
+        "later_table": ["world", "table", "many"],
+        "turned": ["world"],
+        "with_ship": ["world", "ship"],
+        "without": ["world", "name"],
+    },
+    "desklines": {"read_line": ["line"]},
 }
 
 # Of each class its base classes, and of its methods the arguments behind self.
@@ -108,6 +118,15 @@ CLASSES = {
             "where": ["name", "hour"], "at_end": ["name"], "comes": ["name"],
         }),
     },
+    "season": {
+        "Season": ([], {
+            "__init__": ["world"], "go": ["name", "hour", "channel"], "back": ["name"],
+            "late": ["name", "number", "many"], "undo": [], "redo": [], "world": [], "table": [], "whole": [],
+            "led": [], "price": [], "standing": [], "stuck": [], "thick": ["channel", "hour"],
+            "where": ["name", "hour"], "last": ["name", "by"], "copied": [],
+        }),
+    },
+    "desk": {"Desk": ([], {"__init__": [], "say": ["line"]})},
 }
 
 BUILTINS = """

@@ -123,7 +123,7 @@ class Numbers(Case):
             self.assertEqual(number_of(sign + "1"), int(sign + "1") if figure and sign != "0" else None)
 
     def test_words_that_write_none(self):
-        words = ["", "+1", "-1", "-0", "+0", " 1", "1 ", "\n1", "1\n", " ", "\n", "1 2", "1_0", "1.0", "0x1", "1e3", "a"]
+        words = ["", "+1", "-1", "-0", "+0", " 1", "1 ", "\n1", "1\n", " ", "\n", "1 2", "1_0", "1.0", "0x1", "1e3"]
         for word in words:
             self.assertIsNone(number_of(word), repr(word))
 
